@@ -1,0 +1,1 @@
+"""Tagmend: any text with tags read to one tree, and each mend told."""
