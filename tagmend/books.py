@@ -3,6 +3,7 @@
 SORTS = ("bare", "plain", "anew", "room", "frame")
 HOST_SORTS = ("plain", "frame")
 SHUT_OR_BARRED_SORTS = ("plain", "anew")
+WALL_SORTS = ("room", "frame")
 KEYWORDS = ("shuts", "bars")
 LONGEST_NAME = 8
 MOST_ROWS = 12
@@ -16,9 +17,12 @@ BARS = 4
 
 
 def is_name(word):
-    if word in KEYWORDS or not 1 <= len(word) <= LONGEST_NAME:
-        return False
-    return all(["a" <= sign <= "z" for sign in word])
+    return has_letters_of_name(word) and word not in KEYWORDS
+
+
+def has_letters_of_name(word):
+    # A text's openings and closings ask no more of a name than this: the keywords may stand there.
+    return 1 <= len(word) <= LONGEST_NAME and all(["a" <= sign <= "z" for sign in word])
 
 
 def is_rising(names):
@@ -48,6 +52,10 @@ def row_of(rows, name):
 def sort_of(book, name):
     row = row_of(book, name)
     return None if row is None else row[SORT]
+
+
+def is_wall(book, name):
+    return sort_of(book, name) in WALL_SORTS
 
 
 def host_of(book, name):
