@@ -1,10 +1,9 @@
 """Faults: where a tree does not keep a book's rules, and which rule it is."""
 
 from tagmend.books import BARS, SHUTS, frame_of, host_of, row_of, sort_of
-from tagmend.trees import is_text, name_of, names_above, near_of, part_at, parts_of, places_in
+from tagmend.trees import is_text, name_of, names_above, near_of, part_at, parts_of, places_in, straight_above
 
 MOST_ABOVE = 19
-ROOT_NAME = ""
 
 
 def fault_of(book, tree):
@@ -46,10 +45,6 @@ def tree_fault(book, names, tree):
     if len(names) > MOST_ABOVE:
         return "deep"
     return frame_fault(book, names, name_of(tree)) or near_fault(book, names, name_of(tree))
-
-
-def straight_above(names):
-    return names[-1] if len(names) > 0 else ROOT_NAME
 
 
 def frame_fault(book, names, name):

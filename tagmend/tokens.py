@@ -46,3 +46,11 @@ def runs_between(text, start, stop):
     if start == stop:
         return []
     return [("run", start, stop, told_by(text[start:stop]))]
+
+
+def opening_of(name):
+    return f"<{name}>"
+
+
+def closing_of(name):
+    return f"</{name}>"

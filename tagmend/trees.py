@@ -3,6 +3,8 @@
 from tagmend.books import is_wall
 from tagmend.errors import NoPlace
 
+ROOT_NAME = ""
+
 
 def is_text(part):
     return isinstance(part, str)
@@ -64,6 +66,11 @@ def steps_below(place, part):
     # The last part first: the walk takes what it was given last.
     parts = parts_of(part)
     return [(place + (number,), parts[number]) for number in range(len(parts) - 1, -1, -1)]
+
+
+def straight_above(names):
+    # The root is never among the open ones: it is the last one where there is no other.
+    return names[-1] if len(names) > 0 else ROOT_NAME
 
 
 def near_of(book, names):

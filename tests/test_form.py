@@ -97,6 +97,56 @@ class Form(unittest.TestCase):
                     self.assertRegex(node.module, r"\Atagmend\.[a-z_]+\Z")
 
 
+    def test_imported_from_the_file_that_defines_it(self):
+        for path in FILES:
+            for node in nodes_of(path):
+                if isinstance(node, ast.ImportFrom):
+                    defined = names_at_top(PACKAGE / (node.module.split(".")[1] + ".py"))
+                    for alias in node.names:
+                        self.assertIn(alias.name, defined, path)
+                        self.assertIsNone(alias.asname, path)
+
+    def test_no_two_files_draw_from_one_another(self):
+        drawn = {path.stem: {node.module.split(".")[1] for node in nodes_of(path) if isinstance(node, ast.ImportFrom)}
+                 for path in FILES}
+        while drawn:
+            free = [name for name in drawn if not drawn[name] & set(drawn)]
+            self.assertNotEqual(free, [], drawn)
+            drawn = {name: drawn[name] for name in drawn if name not in free}
+
+    def test_locals_bear_no_name_of_a_class_or_an_import(self):
+        for path in FILES:
+            nodes = nodes_of(path)
+            taken = {alias.name for node in nodes if isinstance(node, ast.ImportFrom) for alias in node.names}
+            taken.update(node.name for node in nodes if isinstance(node, ast.ClassDef))
+            for node in nodes:
+                if isinstance(node, ast.arg) or isinstance(node, ast.Name) and isinstance(node.ctx, ast.Store):
+                    self.assertNotIn(names_in(node)[0], taken, path)
+
+    def test_no_name_is_a_method_and_a_value(self):
+        methods = set()
+        values = set()
+        for path in FILES:
+            for node in nodes_of(path):
+                if isinstance(node, ast.ClassDef):
+                    methods.update(inner.name for inner in node.body if isinstance(inner, ast.FunctionDef))
+                if isinstance(node, ast.Attribute) and isinstance(node.ctx, ast.Store):
+                    values.add(node.attr)
+        self.assertEqual(methods & values, set())
+        self.assertEqual((methods | values) & {name for kind in (str, int, list, dict, set, bytes, tuple) for name in
+                                               dir(kind)} - METHODS_OF_CLASSES, set())
+
+
+def names_at_top(path):
+    names = set()
+    for node in ast.parse(path.read_text(encoding="utf-8")).body:
+        if isinstance(node, (ast.FunctionDef, ast.ClassDef)):
+            names.add(node.name)
+        if isinstance(node, ast.Assign):
+            names.add(node.targets[0].id)
+    return names
+
+
 def names_in(node):
     if isinstance(node, ast.Name):
         return [node.id]
