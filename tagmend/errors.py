@@ -1,4 +1,7 @@
-"""The refusals: each has a class of its own, straight under TagError."""
+"""The refusals: each has a class of its own, straight under TagError.
+
+Their words never hold a number that was handed in: Python writes out none of more than some thousand digits.
+"""
 
 
 class TagError(ValueError):

@@ -11,27 +11,37 @@ BLANKS = " \n"
 
 
 def read_text(book, text):
+    reader = reader_of(book, text)
+    return (reader.root(), reader.mends)
+
+
+def reader_of(book, text):
+    # A reader that is through with the text.
     reader = Reader(book)
     for kind, start, stop, told in tokens_of(text):
         reader.read(kind, start, text[start:stop], told)
     reader.finish(len(text))
-    return (reader.root(), reader.mends)
+    return reader
 
 
 class Branch:
     # A tree that is still open. Names wait in it only where it is a wall or the root.
-    def __init__(self, name):
+    def __init__(self, name, place):
         self.name = name
+        self.place = place
         self.parts = []
         self.waiting = []
 
 
 class Reader:
-    # Takes the tokens of one text in their order; the branches are the root and the open ones.
+    # Takes the tokens of one text in their order. The branches are the root and the open ones. Spots are found by what
+    # is laid down of each run that comes into the tree: where it starts, its signs, the place of its text, and how many
+    # signs that text had ahead of it.
     def __init__(self, book):
         self.book = book
-        self.branches = [Branch(ROOT_NAME)]
+        self.branches = [Branch(ROOT_NAME, ())]
         self.mends = []
+        self.laid = []
 
     def root(self):
         return (ROOT_NAME, tuple(self.branches[0].parts))
@@ -88,7 +98,7 @@ class Reader:
             for number in lone_ones(signs):
                 place = start + number
                 self.mends.append((place, place + 1, escaped(signs[number]), "sign"))
-            self.add_text(told)
+            self.add_text(start, signs, told)
 
     def open_names(self):
         return tuple([branch.name for branch in self.branches[1:]])
@@ -102,7 +112,8 @@ class Reader:
         return walls[-1] if len(walls) > 0 else self.branches[0]
 
     def enter(self, name):
-        self.branches.append(Branch(name))
+        above = self.branches[-1]
+        self.branches.append(Branch(name, above.place + (len(above.parts),)))
 
     def leave(self):
         branch = self.branches.pop()
@@ -130,11 +141,13 @@ class Reader:
             if may_come_anew(self.book, self.open_names(), name):
                 self.put_in(name, start, "anew")
 
-    def add_text(self, told):
-        parts = self.branches[-1].parts
-        if len(parts) > 0 and is_text(parts[-1]):
-            told = parts.pop() + told
-        parts.append(told)
+    def add_text(self, start, signs, told):
+        branch = self.branches[-1]
+        ahead = ""
+        if len(branch.parts) > 0 and is_text(branch.parts[-1]):
+            ahead = branch.parts.pop()
+        self.laid.append((start, signs, branch.place + (len(branch.parts),), len(ahead)))
+        branch.parts.append(ahead + told)
 
 
 def those_that_wait(book, closed):

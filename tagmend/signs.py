@@ -16,3 +16,14 @@ def told_by(run):
 
 def lone_ones(run):
     return [number for number, sign in enumerate(run) if sign in ESCAPED and run[number:number + 3] not in TOLD_FOR]
+
+
+def sources_in(run):
+    # For each sign that the run tells, from where to where the signs lie that tell it.
+    sources = []
+    start = 0
+    while start < len(run):
+        stop = start + 3 if run[start:start + 3] in TOLD_FOR else start + 1
+        sources.append((start, stop))
+        start = stop
+    return sources

@@ -3,22 +3,41 @@
 from tagmend.books import LONGEST_NAME, has_letters_of_name
 from tagmend.signs import told_by
 
+# What may still become an opening or a closing has at most so many signs: those of </ and of the longest name.
+LONGEST_BEGUN = 10
+
+# Where in a token each number stands.
+START = 1
+STOP = 2
+
 
 def tokens_of(text):
+    tokens = settled_tokens(text, 0, 0)
+    settled = tokens[-1][STOP] if len(tokens) > 0 else 0
+    return tokens + runs_between(text, settled, len(text))
+
+
+def settled_tokens(text, settled, searched):
+    # Those from number settled on, but for a run at the text's end; no opening or closing begins ahead of searched.
     tokens = []
-    settled = 0
-    start = text.find("<")
+    for tag in tags_from(text, searched):
+        tokens.extend(runs_between(text, settled, tag[START]))
+        tokens.append(tag)
+        settled = tag[STOP]
+    return tokens
+
+
+def tags_from(text, searched):
+    tags = []
+    start = text.find("<", searched)
     while start >= 0:
         stop = tag_stop(text, start)
         if stop is None:
             start = text.find("<", start + 1)
         else:
-            tokens.extend(runs_between(text, settled, start))
-            tokens.append(tag_between(text, start, stop))
-            settled = stop
+            tags.append(tag_between(text, start, stop))
             start = text.find("<", stop)
-    tokens.extend(runs_between(text, settled, len(text)))
-    return tokens
+    return tags
 
 
 def name_start(text, start):

@@ -34,7 +34,7 @@ def way_to(tree, place):
         parts = parts_of(way[-1])
         # A number below 0 would be counted from the end.
         if not 0 <= number < len(parts):
-            raise NoPlace(f"the place {place!r} leads nowhere")
+            raise NoPlace("the place leads nowhere")
         way.append(parts[number])
     return way
 

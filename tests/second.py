@@ -69,6 +69,12 @@ def some_text(source, book, most):
     return "".join(pieces)
 
 
+def some_pieces(source, text):
+    many = source.choice((0, 1, 2, 5, len(text), len(text)))
+    cuts = sorted([source.randrange(len(text) + 1) for number in range(many)])
+    return [text[start:stop] for start, stop in zip([0] + cuts, cuts + [len(text)])]
+
+
 def some_tree(source, book, level):
     return ("", some_parts(source, [row[0] for row in book] or ["zzz"], level))
 

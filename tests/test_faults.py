@@ -41,7 +41,8 @@ class Places(FaultCase):
     TREE = ("", ("x", ("list", (("item", ("y",)),)), ("p", ())))
 
     def test_leads_nowhere(self):
-        for place in ((3,), (-1,), (0, 0), (0, 0, 0), (1, 1), (1, -1), (1, 0, 1), (1, 0, 0, 0), (2, 0), (3, 0), (-1, 0)):
+        for place in ((3,), (-1,), (0, 0), (0, 0, 0), (1, 1), (1, -1), (1, 0, 1), (1, 0, 0, 0), (2, 0), (3, 0), (-1, 0),
+                      (10 ** 5000,), (1, -10 ** 5000), (10 ** 5000, 0)):
             with self.assertRaises(NoPlace, msg=place):
                 fault_at(BOOK, self.TREE, place)
 

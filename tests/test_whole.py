@@ -1,15 +1,17 @@
-"""Point 3: what holds for each book and each text."""
+"""Points 2 and 3: what holds for each book and each text, and for all answers."""
 
+import copy
 import itertools
 import random
 import unittest
 
-from second import BOOK, BOOKS, second_reading, some_book, some_text, some_tree, without_faults
+from second import BOOK, BOOKS, second_reading, some_book, some_pieces, some_text, some_tree, without_faults
 from tagmend.booktexts import read_book
 from tagmend.faults import fault_of
+from tagmend.feeds import Feed
 from tagmend.reading import read_text
 from tagmend.tokens import tokens_of
-from tagmend.trees import levels_of, text_of
+from tagmend.trees import levels_of, places_in, text_of
 from tagmend.writing import mended, written
 
 RULES = {"strange", "barred", "deep", "shut", "frame", "left", "late", "stray", "blank", "host", "anew", "sign", "end"}
@@ -27,7 +29,16 @@ class WholeCase(unittest.TestCase):
         self.assertEqual(read_text(book, text), told, (book, text))
         self.assertTrue(all(left[1] <= right[0] for left, right in zip(mends, mends[1:])), (book, text))
         self.assertEqual((tree, mends, done), second_reading(book, text), (book, text))
+        self.comes_out_in_pieces(book, text, told)
         return mends
+
+    def comes_out_in_pieces(self, book, text, told):
+        feed = Feed(book)
+        mends = []
+        for piece in some_pieces(random.Random(text), text):
+            mends.extend(feed.take(piece))
+        mends.extend(feed.end())
+        self.assertEqual((feed.tree(), mends), told, (book, text))
 
     def signs_left(self, text, mends):
         dropped = {mend[:2] for mend in mends if mend[3] in DROPPED_RUNS}
@@ -72,6 +83,38 @@ class ManyTexts(WholeCase):
         book = read_book("p plain shuts p\nl anew\na bare")
         for number in range(2000):
             self.holds(book, "".join(source.choices("<</>>&;pla \n", k=source.randrange(40))))
+
+
+class Own(WholeCase):
+    """Point 2: nothing that is asked or done to an answer changes another one."""
+
+    def test_changed_answers(self):
+        text = "<p>x<list>y</p>&<zzz>"
+        feed = Feed(BOOK)
+        before = (read_text(BOOK, text), tokens_of(text), feed.take(text), places_in(read_text(BOOK, text)[0]))
+        kept = copy.deepcopy(before)
+        for number in range(2):
+            asked = (read_text(BOOK, text), tokens_of(text), Feed(BOOK).take(text), places_in(kept[0][0]))
+            self.assertEqual(asked, kept)
+            for answer in (asked[0][1], asked[1], asked[2], asked[3]):
+                answer.reverse()
+                answer.append("changed")
+        self.assertEqual(before, kept)
+        self.assertEqual(kept[2] + feed.end(), kept[0][1])
+
+    def test_mends_handed_back(self):
+        text = "<p>x<list>y</p>&<zzz>"
+        tree, mends = read_text(BOOK, text)
+        kept = list(mends)
+        mended(text, mends)
+        self.assertEqual(mends, kept)
+        self.assertEqual(mended(text, mends), written(BOOK, tree))
+
+    def test_books_side_by_side(self):
+        text = "<p>x<a>y<p>z"
+        told = [read_text(book, text) for book in BOOKS]
+        self.assertEqual([read_text(book, text) for book in reversed(BOOKS)], told[::-1])
+        self.assertGreater(len({tree for tree, mends in told}), 2)
 
 
 class ManyTrees(unittest.TestCase):
