@@ -247,6 +247,11 @@ class Blank(ReadCase):
         self.read("<list> & </list>", (("list", (("item", (" & ",)),)),),
                   [(6, 6, "<item>", "host"), (7, 8, "&a;", "sign"), (9, 9, "</item>", "left")])
 
+    def test_each_other_sign(self):
+        for code in range(ord("!"), ord("~") + 1):
+            mends = read_text(BOOK, "<list> " + chr(code) + "</item></list>")[1]
+            self.assertEqual([mend[3] for mend in mends], ["host"] + ["sign"] * (chr(code) in "<&"), chr(code))
+
     def test_blanks_open_what_waits(self):
         self.read("<h><c></h> ", (("h", (("c", ()),)), ("c", (" ",))),
                   [(6, 6, "</c>", "left"), (10, 10, "<c>", "anew")] + ended(11, "c"))
